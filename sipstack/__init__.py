@@ -1,0 +1,1 @@
+"""Sipstack: files over raws that give little, stall and fail."""

@@ -1,0 +1,20 @@
+"""The numbers and words that the whole program shares."""
+
+LONGEST = 4000
+ROOM = 8
+BROKEN = 99
+FULL = 98
+
+PLAIN = "plain"
+STEPS = "steps"
+WIDE = "wide"
+TURN = "turn"
+
+ANY = "any"
+KEPT = "kept"
+FEED = "feed"
+RETURN = "return"
+BOTH = "both"
+
+STRICT = "strict"
+MARK = "mark"
