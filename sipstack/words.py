@@ -5,6 +5,10 @@ ROOM = 8
 BROKEN = 99
 FULL = 98
 
+# The feed and the return, as bytes and as signs; FEED and RETURN below are the words for ways with line ends.
+LINE_FEED = 10
+LINE_RETURN = 13
+
 PLAIN = "plain"
 STEPS = "steps"
 WIDE = "wide"
