@@ -21,10 +21,19 @@ CLASSES = {
         "seek": "(self, place, *, start='head')", "tell": "(self)", "size": "(self)", "cut": "(self, size=None)",
         "row": "(self)",
     },
+    ("files", "File"): {
+        "__init__": "(self, raw, *, room=8, reads=True, writes=True)", "read": "(self, many=None)",
+        "read_some": "(self, many)", "peek": "(self, many=1)", "readline": "(self, limit=None)",
+        "write": "(self, data)", "seek": "(self, place, *, start='head')", "tell": "(self)", "size": "(self)",
+        "cut": "(self, size=None)", "flush": "(self)", "close": "(self)", "waiting": "(self)", "lost": "(self)",
+        "closed": "(self)", "busy": "(self)", "detach": "(self)",
+    },
 }
 
 FUNCTIONS = {
     ("rows", "laid"): "(row, place, data)", ("rows", "row_text"): "(row)", ("rows", "read_row"): "(text)",
+    ("codes", "first_state"): "(code)", ("codes", "read_sign"): "(row, place, state, *, code='steps')",
+    ("codes", "write_signs"): "(signs, state, *, code='steps')", ("ends", "written_ends"): "(signs, *, ends='any')",
 }
 
 

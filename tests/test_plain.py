@@ -46,6 +46,10 @@ class Reads(unittest.TestCase):
             self.assertEqual(plain.peek(many), expected)
             self.assertEqual(plain.tell(), 1)
 
+    def test_none_is_all_for_read_some_and_peek_too(self):
+        plain = Plain([1, 2, 3], 1)
+        self.assertEqual((plain.peek(None), plain.read_some(None), plain.tell()), ([2, 3], [2, 3], 3))
+
     def test_behind_the_end(self):
         for place in (3, 4, LONGEST):
             plain = Plain([1, 2, 3], place)

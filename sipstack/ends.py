@@ -1,0 +1,26 @@
+"""Line ends: the five ways with them, and how they are written."""
+
+from sipstack.errors import NoEnds
+from sipstack.words import ANY, BOTH, FEED, KEPT, LINE_FEED, LINE_RETURN, RETURN
+
+
+def written_ends(signs, *, ends=ANY):
+    """The text as it is written: a new list, in which each feed is written by the way."""
+    feed = written_feed(ends)
+    told = []
+    for sign in signs:
+        if sign == LINE_FEED:
+            told.extend(feed)
+        else:
+            told.append(sign)
+    return told
+
+
+def written_feed(ends):
+    if ends == RETURN:
+        return [LINE_RETURN]
+    if ends == BOTH:
+        return [LINE_RETURN, LINE_FEED]
+    if ends == ANY or ends == KEPT or ends == FEED:
+        return [LINE_FEED]
+    raise NoEnds(ends)
