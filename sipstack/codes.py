@@ -84,6 +84,41 @@ def behind_mark(row, place):
     return (place, HIGH_FIRST)
 
 
+def may_go_on(row, begin, code):
+    """Whether further bytes could make a sign of those from begin on, which are the row's last and no whole writing."""
+    if code == WIDE:
+        return True
+    if code != STEPS:
+        return False
+    many = steps_lead(row[begin])[0]
+    # The greatest following bytes: where they make no sign of its own, no others do.
+    missing = many - (len(row) - begin)
+    if missing <= 0:
+        return False
+    return steps_sign_at(row[begin:] + [191] * missing, 0)[1] > 0
+
+
+def bytes_for_state(size, code):
+    """How many of the first bytes of a row of this size tell the state behind all of it."""
+    if code == TURN:
+        return size
+    if code == WIDE:
+        return min(2, size)
+    return 0
+
+
+def state_behind(head, code):
+    """The state behind a row, of which so many first bytes are handed in, marks and turning bytes gone through."""
+    if code == WIDE and head:
+        return behind_mark(head, 0)[1]
+    state = 0
+    if code == TURN:
+        for byte in head:
+            if byte >= TURNING:
+                state = byte - TURNING
+    return state
+
+
 def sign_at(row, begin, state, code):
     """A tuple (sign, how many bytes its writing has), of no bytes where no writing begins there."""
     if code == STEPS:

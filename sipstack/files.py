@@ -29,6 +29,8 @@ class File:
         self.seen_size = 0
         self.ended = False
         self.unsaved = []
+        # Set by a pouring, as long as it goes on.
+        self.engaged = False
 
     def read(self, many=None):
         self.check_reading(many)
@@ -139,8 +141,7 @@ class File:
         return self.ended
 
     def busy(self):
-        # Nothing pours yet.
-        return False
+        return self.engaged
 
     def detach(self):
         """The raw, and the bytes that were brought and not told, which a raw that seeks can give once more."""

@@ -22,3 +22,6 @@ BOTH = "both"
 
 STRICT = "strict"
 MARK = "mark"
+
+# The sign by which a wrong byte is told, by mark.
+WRONG_SIGN = 65533

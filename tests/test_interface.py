@@ -28,12 +28,24 @@ CLASSES = {
         "cut": "(self, size=None)", "flush": "(self)", "close": "(self)", "waiting": "(self)", "lost": "(self)",
         "closed": "(self)", "busy": "(self)", "detach": "(self)",
     },
+    ("texts", "Text"): {
+        "__init__": "(self, file, *, code='steps', ends='any', wrong='strict')", "read": "(self, many=None)",
+        "peek": "(self, many=1)", "readline": "(self, limit=None)", "write": "(self, signs)", "changes": "(self)",
+        "tell": "(self)", "go": "(self, cookie=None)", "go_end": "(self)", "cut": "(self)", "flush": "(self)",
+        "close": "(self)", "waiting": "(self)", "lost": "(self)", "closed": "(self)", "busy": "(self)",
+        "detach": "(self)",
+    },
+    ("stretch", "Stretch"): {"__init__": "(self, file, first, size)"},
 }
 
 FUNCTIONS = {
     ("rows", "laid"): "(row, place, data)", ("rows", "row_text"): "(row)", ("rows", "read_row"): "(text)",
     ("codes", "first_state"): "(code)", ("codes", "read_sign"): "(row, place, state, *, code='steps')",
     ("codes", "write_signs"): "(signs, state, *, code='steps')", ("ends", "written_ends"): "(signs, *, ends='any')",
+    ("items", "read_items"): "(row, place, state, *, code='steps', ends='any', wrong='strict')",
+    ("items", "decoded"): "(row, *, code='steps', ends='any', wrong='strict')",
+    ("items", "encoded"): "(signs, *, code='steps', ends='any')",
+    ("pouring", "pour"): "(source, target, *, room=8, most=None)",
 }
 
 
