@@ -220,6 +220,20 @@ class File:
                 raise Stalled()
             del self.waits[:took]
 
+    def hand_down(self, data):
+        """Write the bytes of this list and put all that waits; what is in is gone from the list, however it ends."""
+        if data:
+            try:
+                self.write(data)
+            except Stalled as stall:
+                del data[:stall.taken]
+                raise Stalled()
+            except Fault as fault:
+                del data[:fault.taken]
+                raise Fault(fault.number)
+            data.clear()
+        self.flush()
+
     def give_back(self):
         """Let only a room full wait, and tell how many of the youngest bytes are not in after all."""
         beyond = len(self.waits) - self.room

@@ -3,7 +3,7 @@
 from sipstack.checks import check_count, check_length
 from sipstack.codes import bytes_for_state, first_state, state_behind, write_signs
 from sipstack.ends import written_ends
-from sipstack.errors import BadCode, BadPlace, Closed, Fault, NoReads, SipError, Stalled
+from sipstack.errors import BadCode, BadPlace, Closed, NoReads, SipError, Stalled
 from sipstack.items import Scan, check_ways, signs_of
 from sipstack.words import ANY, LONGEST, STEPS, STRICT
 
@@ -262,16 +262,7 @@ class Text:
         """Hand what waits on, till the raw has it all."""
         if self.unsent:
             self.lead_file(self.spot - len(self.unsent))
-            try:
-                self.file.write(self.unsent)
-            except Stalled as stall:
-                del self.unsent[:stall.taken]
-                raise Stalled()
-            except Fault as fault:
-                del self.unsent[:fault.taken]
-                raise Fault(fault.number)
-            self.unsent = []
-        self.file.flush()
+        self.file.hand_down(self.unsent)
 
     def end_with_file(self):
         try:

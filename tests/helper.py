@@ -344,19 +344,37 @@ def model_items(row, place, state, code, ends, wrong):
     return [(65533 if sign is None else sign, behind, there) for sign, behind, there in signs], bad
 
 
+def ends_there(signs, at, ends):
+    """Whether a line ends with this one of the signs."""
+    sign = signs[at]
+    follower = signs[at + 1] if at + 1 < len(signs) else None
+    before = signs[at - 1] if at else None
+    return {
+        "any": sign == 10, "feed": sign == 10, "return": sign == 13, "both": (before, sign) == (13, 10),
+        "kept": sign == 10 or sign == 13 and follower != 10,
+    }[ends]
+
+
 def model_line(items, ends, limit=None):
     """The items up to the first line's end and with it, at most limit."""
     signs = [sign for sign, _, _ in items]
-    for at, sign in enumerate(signs):
-        follower = signs[at + 1] if at + 1 < len(signs) else None
-        before = signs[at - 1] if at else None
-        end = {
-            "any": sign == 10, "feed": sign == 10, "return": sign == 13, "both": (before, sign) == (13, 10),
-            "kept": sign == 10 or sign == 13 and follower != 10,
-        }[ends]
-        if end:
+    for at in range(len(signs)):
+        if ends_there(signs, at, ends):
             return items[:at + 1][:limit]
     return items[:limit]
+
+
+def model_lines(row, code, ends, wrong):
+    """(the lines of a row that are told, the place of the wrong byte behind them or None)."""
+    items, bad = model_items(row, 0, 0, code, ends, wrong)
+    lines = []
+    while items:
+        line = model_line(items, ends)
+        if bad is not None and not ends_there([sign for sign, _, _ in items], len(line) - 1, ends):
+            break
+        lines.append([sign for sign, _, _ in line])
+        items = items[len(line):]
+    return lines, bad
 
 
 def mixed_row(random, code, length):
@@ -404,9 +422,12 @@ class TextWatch:
         self.need(one == other, (what, one, other))
 
     def ask(self, word, *handed):
+        return self.ask_of(self.text, word, *handed)
+
+    def ask_of(self, owner, word, *handed):
         """The answer of a call, and its asks; what is known and what was put is reckoned by them."""
         self.asked = len(self.device.log())
-        answer = outcome(getattr(self.text, word), *handed)
+        answer = outcome(getattr(owner, word), *handed)
         self.asks = self.device.log()[self.asked:]
         self.story.append((word, handed, answer, self.asks))
         for at, (kind, place, data, came) in enumerate(self.asks):
@@ -593,6 +614,23 @@ class TextWatch:
         if not self.refused_by_asks(answer):
             self.same((answer, self.text.waiting()), (told(None), []), "all is put")
         self.check_state()
+
+    def ask_book(self, book, word, *handed):
+        """A question to a book of lines upon the text, held against the row's lines (points 37 and 38)."""
+        lines, bad = model_lines(self.row, *self.ways)
+        due = told(len(lines)) if bad is None else refused("BadCode", at=bad)
+        if word == "line":
+            k = handed[0]
+            if 0 <= k < len(lines):
+                due = told(lines[k])
+            elif bad is None or k < 0:
+                due = refused("NoLine", at=k)
+        answer = self.ask_of(book, word, *handed)
+        if not self.refused_by_asks(answer):
+            self.need(answer == due or self.last[3] == "stall" and answer == STALLED, ("the due", due))
+        self.turn()
+        self.check_state()
+        return answer
 
     def check_state(self):
         waits = self.text.waiting()

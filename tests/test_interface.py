@@ -36,6 +36,11 @@ CLASSES = {
         "detach": "(self)",
     },
     ("stretch", "Stretch"): {"__init__": "(self, file, first, size)"},
+    ("linebook", "LineBook"): {"__init__": "(self, text)", "line": "(self, k)", "lines": "(self)"},
+    ("journal", "Journal"): {
+        "__init__": "(self, file)", "add": "(self, data)", "keep": "(self)", "records": "(self)", "kept": "(self)",
+        "__len__": "(self)",
+    },
 }
 
 FUNCTIONS = {
@@ -45,7 +50,8 @@ FUNCTIONS = {
     ("items", "read_items"): "(row, place, state, *, code='steps', ends='any', wrong='strict')",
     ("items", "decoded"): "(row, *, code='steps', ends='any', wrong='strict')",
     ("items", "encoded"): "(signs, *, code='steps', ends='any')",
-    ("pouring", "pour"): "(source, target, *, room=8, most=None)",
+    ("pouring", "pour"): "(source, target, *, room=8, most=None)", ("journal", "records_of"): "(row)",
+    ("playing", "play"): "(file, raw, calls)", ("judging", "judged"): "(content, room, history)",
 }
 
 

@@ -74,7 +74,8 @@ class Refusals(unittest.TestCase):
         self.assertEqual(outcome(text.cut), refused("NoWrites"))
         device, text = text_of([65], seeks=False, reads=False)
         self.assertEqual(outcome(text.go_end), refused("NoReads"))
-        self.assertEqual(outcome(text.cut), refused("NoSeek"))
+        text.write([66])
+        self.assertEqual(asks_of(device, text.cut), (refused("NoSeek"), []))
 
     def test_counts_below_nought_and_of_nought(self):
         device, text = text_of([255, 65], plan=[0])
@@ -148,6 +149,8 @@ class Reading(unittest.TestCase):
         for ends in ("kept", "both"):
             device, text = text_of([65, 13, 10, 66], ends=ends)
             self.assertEqual((text.readline(2), text.readline(1)), ([65, 13], [10]))
+            device, text = text_of([65, 13, 10, 66], plan=[2, 0], ends=ends)
+            self.assertEqual(text.readline(2), [65, 13])
 
     def test_wrong_bytes_by_strict_again_at_each_asking(self):
         device, text = text_of([65, 66, 255, 67])
