@@ -166,7 +166,6 @@ class Walk:
             return False
         # Noughts of a gap are the file's own from this put on.
         self.note_places(self.owned, len(self.cells), self.spot - len(self.cells))
-        self.note_places(self.owned, self.spot, came)
         self.cells = laid(self.cells, self.spot, data[:came])
         del self.pending[:came]
         self.spot += came

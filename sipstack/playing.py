@@ -10,9 +10,9 @@ def play(file, raw, calls):
     """A list of tuples (call, answer, asks), one for each call."""
     history = []
     for call in calls:
-        asked = len(raw.log())
+        asked = len(raw.notes)
         answer = answer_of(file, raw, call)
-        history.append((tuple([own_copy(part) for part in call]), answer, raw.log()[asked:]))
+        history.append((tuple([own_copy(part) for part in call]), answer, raw.log_behind(asked)))
     return history
 
 

@@ -92,7 +92,11 @@ class Raw:
 
     def log(self):
         """All asks so far, as tuples (word, place, handed, came)."""
-        return [(word, place, own_copy(handed), own_copy(came)) for word, place, handed, came in self.notes]
+        return self.log_behind(0)
+
+    def log_behind(self, many):
+        """The log without its first rows, so many."""
+        return [(word, place, own_copy(handed), own_copy(came)) for word, place, handed, came in self.notes[many:]]
 
     def note(self, word, handed, came):
         # Noted ahead of any move, as the log tells the place ahead of the ask.

@@ -110,6 +110,10 @@ class Good(unittest.TestCase):
         judged(content, room, history)
         judged(content, room, history)
         self.assertEqual((content, history), before)
+        content = [1, 2, 3]
+        for call, ask in ((("grow", [4]), []), (("cut", 1), [("cut", 0, 1, 0)])):
+            self.assertIsNone(judged(content, 2, [(call, TOLD, ask)]))
+            self.assertEqual(content, [1, 2, 3])
 
 
 class Cases(unittest.TestCase):
@@ -140,6 +144,17 @@ class Cases(unittest.TestCase):
         self.bad((take, ("told", [1, 2]), [("take", 0, 9, [1]), ("take", 0, 9, [2])]))
         self.bad((take, ("told", None), [("take", 0, 9, [1])]))
         self.bad((take, ("refused", "Stalled", None, 0), [("take", 0, 9, "stall")]))
+        self.bad((take, ("told", [1, 2]), [("take", 0, 9, "stall"), ("take", 0, 9, [1, 2])]))
+        self.bad((take, FAULT, [("take", 0, 9, "fault"), ("take", 0, 9, "fault")]))
+        one = (("read", 1), ("told", [1]), [("take", 0, 1, [1])])
+        back = (("seek", 0, "head"), ("told", 0), [])
+        self.bad(one, back, (("read", 1), ("told", [1]), [("go", 1, 0, 0), ("take", 0, 1, [2])]))
+        self.bad(one, back, (("read", 1), ("told", [1]), [("go", 1, 5, 0), ("take", 5, 0, [])]))
+        self.good(one, back, (("read", 1), ("told", [1]), [("go", 1, 5, 0), ("take", 5, 1, [])]))
+        for number in (None, 0, -1, True):
+            self.bad((take, ("refused", "Fault", number, 0), [("take", 0, 9, "fault")]))
+        for number in (1, 2, 99):
+            self.good((take, ("refused", "Fault", number, 0), [("take", 0, 9, "fault")]))
 
     def test_goes(self):
         go = ("go", 0, 3, 0)
@@ -206,6 +221,7 @@ class Cases(unittest.TestCase):
         flushed = (("flush",), TOLD, [("go", 0, 7, 0), ("put", 7, [9], 1)])
         self.good(far, wrote, flushed, (("seek", 5, "head"), ("told", 5), []), (("read", 3), ("told", [0, 0, 9]), []))
         self.bad(far, wrote, flushed, (("seek", 4, "head"), ("told", 4), []), (("read", 4), ("told", [5, 0, 0, 9]), []))
+        self.bad(far, wrote, flushed, (("grow", [6]), TOLD, []), (("read", 1), ("told", [6]), []))
 
     def test_what_was_cut_off_and_grown_anew_are_other_bytes(self):
         first = (("read", 5), ("told", [1, 2, 10, 4, 5]), [("take", 0, 9, [1, 2, 10, 4, 5])])
@@ -229,6 +245,8 @@ class Cases(unittest.TestCase):
             self.bad(((word, 0), ("told", []), [("take", 0, 9, "stall")]))
             self.good((("grow", []), TOLD, []), ((word, 0), ("told", []), []), content=())
         self.bad(first, (("read", 1), ("told", [6]), [("take", 5, 9, [6])]))
+        self.bad(first, (("read", 1), ("told", []), [("take", 5, 9, [])]), (("read", 1), ("told", []), []))
+        self.bad(first, (("read", 1), ("told", []), [("go", 5, 0, 0), ("take", 0, 9, [1])]))
         self.good(first, (("grow", [6]), TOLD, []), (("read", 1), ("told", [6]), [("take", 5, 9, [6])]))
         self.bad(first, (("grow", [6]), TOLD, []), (("read", 1), ("told", []), [("take", 5, 9, [])]))
 
@@ -256,6 +274,10 @@ class Cases(unittest.TestCase):
             self.bad(first, ((word, count), ("told", due), more))
             self.bad(first, ((word, count), ("told", due), [("go", 4, 0, 0)]))
             self.bad(first, ((word, count), ("told", None), [("take", 4, 9, "stall")]))
+        lone = (("peek", 1), ("told", [1]), [("take", 0, 9, [1])])
+        for word in ("read_some", "peek"):
+            self.good(lone, ((word, 3), ("told", [1]), []))
+            self.bad(lone, ((word, 3), ("told", [1, 2]), [("take", 1, 9, [2])]))
         self.good(first, (("read", 5), ("told", [1, 2, 10, 4, 5]), more))
         self.good(first, (("read", None), ("told", [1, 2, 10, 4, 5]), more))
         self.good(first, (("read", 5), FAULT, [("take", 4, 9, "fault")]), (("read", 4), ("told", [1, 2, 10, 4]), []))
@@ -269,6 +291,7 @@ class Cases(unittest.TestCase):
         self.bad(first, (("grow", []), TOLD, []), again)
         self.good(first, (("cut", 4), TOLD, [("cut", 3, 4, 0)]), again)
         self.good(first, (("cut", 5), TOLD, []), again)
+        self.good(first, (("cut", 9), FAULT, [("cut", 3, 9, 0), ("go", 3, 0, "fault")]), again)
         self.bad(first, (("cut", 4), FAULT, [("cut", 3, 4, "fault")]), again)
         self.good(first, (("seek", 1, "head"), ("told", 1), []), (("seek", 0, "head"), ("told", 0), []), again)
         self.bad(first, (("seek", 0, "head"), ("told", 0), []), again)
@@ -291,6 +314,7 @@ class Cases(unittest.TestCase):
             self.good((write, ("told", 3), [("put", 0, handed, took)]))
         self.bad((write, ("told", 3), [("put", 0, data, 0)]))
         self.bad((write, ("told", 3), [("put", 0, data, 4)]))
+        self.bad((write, ("told", 3), [("put", 0, data, 0), ("put", 0, data, 3)]))
         self.bad((write, ("told", 3), [("put", 0, [8], 1)]))
         self.bad((write, ("told", 3), [("put", 0, [], 1)]))
         self.bad((write, ("told", 3), [("put", 0, data + [1], 1)]))

@@ -143,6 +143,14 @@ class TheText(unittest.TestCase):
                 self.assertEqual([ask for ask in asks if ask[0] != "go"], [ask for ask in twin_asks if ask[0] != "go"])
                 self.assertLessEqual(words_of(asks).count("go"), 1)
 
+    def test_behind_a_change_it_keeps_what_it_finds_anew(self):
+        row = [65] * 20 + [10] + [66] * 20 + [10] + [67]
+        device, text, book = book_of(row)
+        text.write([68])
+        self.assertEqual(book.lines(), 3)
+        answer, asks = asks_of(device, book.line, 2)
+        self.assertEqual((answer, [place for word, place, _, _ in asks if word == "take"][:1]), (told([67]), [42]))
+
     def test_asked_again_it_is_told(self):
         row = [65] * 6 + [10] + [66] * 6 + [13, 10, 67]
         for plan in ([1, 0] * 60, [2, -7, 0] * 40, [0] * 9):

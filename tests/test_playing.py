@@ -80,7 +80,9 @@ class Plays(unittest.TestCase):
             ("refused", "NoWrites", None, 0), ("refused", "NoWrites", None, 0), ("refused", "NoSeek", None, 0), ("told", [1]),
         ])
         history = played([1], [("read", 1), ("cut", 0)], seeks=False, reads=False)
-        self.assertEqual([answer[1] for _, answer, _ in history], ["NoReads", "NoSeek"])
+        self.assertEqual([answer for _, answer, _ in history], [
+            ("refused", "NoReads", None, 0), ("refused", "NoSeek", None, 0),
+        ])
 
     def test_lists_handed_in_and_told(self):
         data, grown = [7], [9]
